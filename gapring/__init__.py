@@ -1,0 +1,1 @@
+"""Gapring: rings of numbers, each put otherwise by its gap to the next."""
