@@ -16,8 +16,8 @@ def after(ring, turns):
     check_ring(ring)
     now = list(ring)
     left = turns
-    # Turn by turn alone would never end for great numbers of turns. Every ring
-    # becomes flat within some thousands of turns, and from there on we can leap.
+    # Turn by turn alone would not end in time for great numbers of turns; but
+    # every ring comes to a flat one, and from there on the turns can be leapt.
     while left > 0 and not flat(now):
         now = gaps_over(now, 1)
         left = left - 1
