@@ -1,71 +1,9 @@
 import itertools
-import random
 import unittest
 
+from cases import EDGE_RINGS, MOST_TURNS, NO_RINGS, RING_CALLS, RingCase, plain_gaps, some_rings
 from gapring.errors import NoBits, NoRing, Unlike
 from gapring.rings import after, contrary, gaps, mixed, turned
-
-MOST_TURNS = 10 ** 40 - 1
-
-NO_RINGS = [
-    [],
-    [0],
-    [0, 1],
-    [0] * 17,
-    [1000] * 17,
-    list(range(40)),
-    [-1, 0, 0],
-    [0, -1, 0],
-    [0, 0, -1],
-    [1001, 0, 0],
-    [0, 1001, 0],
-    [0, 0, 1001],
-    [0] * 15 + [-1],
-    [0] * 15 + [1001],
-    [-1] * 16,
-    [10 ** 30, 0, 0],
-    [-(10 ** 30), 0, 0],
-    [-1, 1001, 0],
-]
-
-EDGE_RINGS = [
-    [0, 0, 0],
-    [1000, 1000, 1000],
-    [0, 1000, 0],
-    [0] * 16,
-    [1000] * 16,
-    [0] * 15 + [1000],
-    [1000] + [0] * 15,
-    list(range(985, 1001)),
-]
-
-# Each function that is handed one ring, with its other argument at an ordinary and at an edge value.
-CALLS = {
-    "gaps": lambda ring: gaps(ring),
-    "after none": lambda ring: after(ring, 0),
-    "after one": lambda ring: after(ring, 1),
-    "after some": lambda ring: after(ring, 5),
-    "after most": lambda ring: after(ring, MOST_TURNS),
-    "turned by none": lambda ring: turned(ring, 0),
-    "turned by a round": lambda ring: turned(ring, len(ring)),
-    "turned by some": lambda ring: turned(ring, 2),
-    "turned back": lambda ring: turned(ring, -1),
-    "contrary": lambda ring: contrary(ring),
-}
-
-
-def some_rings(greatest=1000, each=6):
-    chance = random.Random(7)
-    return [
-        [chance.randint(0, greatest) for place in range(size)]
-        for size in range(3, 17)
-        for number in range(each)
-    ]
-
-
-def plain_gaps(ring):
-    following = ring[1:] + ring[:1]
-    return [max(a, b) - min(a, b) for a, b in zip(ring, following)]
 
 
 def plain_after(ring, turns):
@@ -82,44 +20,20 @@ def plain_after(ring, turns):
     return rows[turns]
 
 
-class RingCase(unittest.TestCase):
-    def assert_refused(self, refusal, call, *args):
-        before = [list(arg) if isinstance(arg, list) else arg for arg in args]
-        with self.assertRaises(refusal) as caught:
-            call(*args)
-        self.assertIs(type(caught.exception), refusal)
-        self.assertEqual(list(args), before)
-
-
 class WhatARingIs(RingCase):
     """[2]"""
 
-    def test_another_list_is_refused(self):
-        for name, call in CALLS.items():
-            for ring in NO_RINGS:
-                with self.subTest(call=name, ring=ring):
-                    self.assert_refused(NoRing, call, ring)
-
     def test_every_size_from_3_to_16_is_taken(self):
-        for name, call in CALLS.items():
+        for name, call in RING_CALLS.items():
             for size in range(3, 17):
                 with self.subTest(call=name, size=size):
                     self.assertEqual(len(call([1] * size)), size)
 
     def test_rings_at_the_edges_are_taken(self):
-        for name, call in CALLS.items():
+        for name, call in RING_CALLS.items():
             for ring in EDGE_RINGS:
                 with self.subTest(call=name, ring=ring):
                     self.assertEqual(len(call(ring)), len(ring))
-
-    def test_a_wrong_number_is_refused_at_each_place(self):
-        for size in (3, 9, 16):
-            for place in range(size):
-                for wrong in (-1, 1001):
-                    ring = [500] * size
-                    ring[place] = wrong
-                    with self.subTest(size=size, place=place, wrong=wrong):
-                        self.assert_refused(NoRing, gaps, ring)
 
 
 class GapRings(RingCase):
@@ -322,54 +236,8 @@ class BehindPowersOfTwo(RingCase):
                         self.assertEqual(after(ring, turns), now)
 
 
-class NothingHangsOnWhatIsHandedIn(RingCase):
-    """[1]"""
-
-    RINGS = [[5, 2, 9], [1, 0, 1], [0, 0, 0], [7, 7, 7, 7], list(range(16))]
-
-    def test_what_is_handed_in_stays_as_it_was(self):
-        for name, call in CALLS.items():
-            for ring in self.RINGS:
-                handed = list(ring)
-                call(handed)
-                with self.subTest(call=name, ring=ring):
-                    self.assertEqual(handed, ring)
-
-    def test_what_is_handed_in_may_be_changed_later(self):
-        for name, call in CALLS.items():
-            for ring in self.RINGS:
-                handed = list(ring)
-                told = call(handed)
-                kept = list(told)
-                handed[0] = 999
-                handed.append(4)
-                with self.subTest(call=name, ring=ring):
-                    self.assertEqual(told, kept)
-                    self.assertEqual(call(list(ring)), kept)
-
-    def test_a_ring_changed_later_is_told_of_anew(self):
-        for name, call in CALLS.items():
-            handed = [5, 2, 9]
-            call(handed)
-            handed[1] = 700
-            with self.subTest(call=name):
-                self.assertEqual(call(handed), call([5, 700, 9]))
-
-    def test_what_is_told_is_the_askers_own(self):
-        for name, call in CALLS.items():
-            for ring in self.RINGS:
-                handed = list(ring)
-                first = call(handed)
-                kept = list(first)
-                first[0] = 999
-                first.append(4)
-                second = call(handed)
-                with self.subTest(call=name, ring=ring):
-                    self.assertIs(type(first), list)
-                    self.assertIsNot(first, handed)
-                    self.assertIsNot(first, second)
-                    self.assertEqual(handed, ring)
-                    self.assertEqual(second, kept)
+class MixedKeepsNothing(RingCase):
+    """[1]; of the functions that are handed one ring, test_whole.py tells."""
 
     def test_mixed_changes_and_keeps_nothing(self):
         one, other = [0, 1, 1], [1, 1, 0]
